@@ -347,17 +347,20 @@ func TestLongerRowsOfKeyBytes(t *testing.T) {
 	}
 }
 
-// Each beginning, cut off by each byte.
+// Each beginning, cut off: those of one byte and of two by each byte, those of three by each at which something begins or ends.
 func TestBeginningsCutOff(t *testing.T) {
+	var all []byte
+	for c := range 256 {
+		all = append(all, byte(c))
+	}
 	_, begun := wholes()
-	n := 0
 	for text := range begun {
-		n++
-		if len(text) == 3 && n%16 != 0 {
-			continue
+		cuts := all
+		if len(text) == 3 {
+			cuts = keyBytes()
 		}
-		for c := range 256 {
-			holdRunes(t, append([]byte(text), byte(c)))
+		for _, c := range cuts {
+			holdRunes(t, append([]byte(text), c))
 		}
 		holdFeed(t, []byte(text))
 		holdFeed(t, append([]byte(text), 65))
